@@ -1,0 +1,1 @@
+"""Spanforest: stretches kept so that those that meet are told quickly."""
