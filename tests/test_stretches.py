@@ -1,42 +1,10 @@
 """Tests of spanforest.stretches: points 1, 2 and 4 of the document, as far as they speak of a stretch."""
 
 import unittest
-from unittest.mock import Mock
 
+from refusals import MOST, WRONG, RefusalTest
 from spanforest import stretches
-from spanforest.errors import BadStretch, Missing, SpanError, Twice
 from spanforest.stretches import meet, stretch_of
-
-MOST = 10 ** 60 - 1
-
-# None of these is a whole number of point 1.
-WRONG = (
-    10 ** 60,
-    -10 ** 60,
-    10 ** 61,
-    10 ** 5000,
-    -10 ** 5000,
-    True,
-    False,
-    None,
-    "",
-    "5",
-    b"5",
-    (),
-    (5,),
-    (5, 5, 5),
-    [],
-    [5],
-    {},
-    {5},
-    5.0,
-    float("inf"),
-    float("nan"),
-    5j,
-    object(),
-    int,
-    Mock(spec=int),
-)
 
 
 def held(stretch):
@@ -44,22 +12,13 @@ def held(stretch):
     return set(range(stretch[0], stretch[1] + 1))
 
 
-class StretchTest(unittest.TestCase):
-    def assert_refused(self, function, *given):
-        with self.assertRaises(BadStretch) as caught:
-            function(*given)
-        self.assertIs(type(caught.exception), BadStretch)
-        self.assertIsInstance(caught.exception, SpanError)
-        self.assertIsInstance(caught.exception, ValueError)
-        self.assertNotIsInstance(caught.exception, Twice)
-        self.assertNotIsInstance(caught.exception, Missing)
-
+class StretchTest(RefusalTest):
     def assert_meeting(self, one, other, expected):
         self.assertIs(meet(one, other), expected, (one, other))
         self.assertIs(meet(other, one), expected, (other, one))
 
 
-class TestStretchOf(StretchTest):
+class TestStretchOf(RefusalTest):
     def assert_told(self, low, high, mark):
         found = stretch_of(low, high, mark)
         self.assertIs(type(found), tuple)
